@@ -1,0 +1,1 @@
+"""Linewarden: near-stores with lines over one far store."""

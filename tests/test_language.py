@@ -1,0 +1,265 @@
+"""The package keeps to its part of Python: what of LANGUAGE.md a look at the code can tell."""
+
+import ast
+import builtins
+import pathlib
+import re
+import unittest
+
+PACKAGE = pathlib.Path(__file__).resolve().parent.parent / "linewarden"
+
+OWN_NAMES = set(
+    "len range enumerate zip min max sum abs sorted reversed int str bool list tuple dict set frozenset "
+    "isinstance ord repr any all divmod Exception ValueError TypeError KeyError IndexError LookupError "
+    "ZeroDivisionError ArithmeticError OverflowError RuntimeError NotImplementedError AttributeError "
+    "StopIteration".split())
+OWN_METHODS = set(
+    "append clear copy count endswith extend find get index insert isalnum isalpha isdigit islower isspace "
+    "isupper items join keys ljust lower lstrip partition pop remove replace reverse rfind rjust rpartition "
+    "rsplit rstrip setdefault split splitlines startswith strip update upper values zfill bit_length".split())
+DOUBLED = {"__init__", "__eq__", "__repr__", "__str__", "__len__"}
+BARRED_WORDS = re.compile(
+    r"\b(type|typing|typing_extensions|enum|Enum|IntEnum|StrEnum|Flag|IntFlag|Generic|Protocol|ABC|ABCMeta|"
+    r"namedtuple|NamedTuple|TypedDict|TYPE_CHECKING|abstractmethod)\b|dataclass|overload|contextmanager")
+BARRED_NAMES = set(
+    "register mro elements open input version_info with_traceback add_note format format_map".split())
+BARRED_FILES = re.compile(r"tests?|testing|test_.*|site|conftest|sitecustomize|usercustomize")
+NODES = (
+    ast.Module, ast.FunctionDef, ast.ClassDef, ast.ImportFrom, ast.alias, ast.arguments, ast.arg, ast.Lambda,
+    ast.Assign, ast.AugAssign, ast.If, ast.While, ast.For, ast.Return, ast.Break, ast.Continue, ast.Pass,
+    ast.Raise, ast.Try, ast.ExceptHandler, ast.Expr, ast.Constant, ast.List, ast.Tuple, ast.Dict, ast.Set,
+    ast.BinOp, ast.UnaryOp, ast.BoolOp, ast.Compare, ast.IfExp, ast.Call, ast.keyword, ast.Attribute,
+    ast.Subscript, ast.Slice, ast.ListComp, ast.comprehension, ast.JoinedStr, ast.FormattedValue, ast.Name,
+    ast.expr_context, ast.operator, ast.unaryop, ast.boolop, ast.cmpop)
+TOP_NODES = (ast.ImportFrom, ast.FunctionDef, ast.ClassDef, ast.Assign)
+
+
+def faults_of_text(source):
+    rows = source.split("\n")
+    faults = []
+    if any(sign != "\n" and not " " <= sign <= "~" for sign in source):
+        faults.append("L14 sign")
+    if len(rows) > 401:
+        faults.append("L10 file")
+    for place, row in enumerate(rows, start=1):
+        if len(row) > 120:
+            faults.append(f"L10 line {place}")
+        if BARRED_WORDS.search(row):
+            faults.append(f"L17 word in line {place}")
+    return faults
+
+
+def fault_of_name(name):
+    if name in BARRED_NAMES:
+        return "L17 name " + name
+    if not re.fullmatch(r"[A-Za-z][A-Za-z0-9_]*", name):
+        return "L12 name " + name
+    if name in vars(builtins):
+        return "L15 name " + name
+    return None
+
+
+def faults_of_def(node):
+    given = node.args
+    faults = []
+    if given.vararg or given.kwarg or given.kwonlyargs or given.posonlyargs:
+        faults.append("L4 parameters")
+    if isinstance(node, ast.FunctionDef):
+        if node.decorator_list:
+            faults.append("L4 decorator")
+        if node.end_lineno - node.lineno + 1 > 40:
+            faults.append("L10 function " + node.name)
+        if node.name not in DOUBLED and fault_of_name(node.name):
+            faults.append(fault_of_name(node.name))
+    return faults
+
+
+def faults_of_class(node):
+    faults = []
+    if node.decorator_list or node.keywords or len(node.bases) > 1:
+        faults.append("L5 class " + node.name)
+    for part in node.body:
+        if not isinstance(part, (ast.FunctionDef, ast.Pass)):
+            faults.append("L5 body of " + node.name)
+    return faults
+
+
+def faults_of_import(node):
+    module = node.module or ""
+    if module == "__future__":
+        return []
+    if node.level or not module.startswith("linewarden.") or module.endswith("__main__"):
+        return ["L2 import of " + module]
+    return ["L2 import of all"] if any(name.name == "*" for name in node.names) else []
+
+
+def faults_of_compare(node):
+    faults = []
+    sides = [node.left] + node.comparators
+    for place, sign in enumerate(node.ops):
+        if isinstance(sign, (ast.Is, ast.IsNot)):
+            beside = [side.value for side in sides[place:place + 2] if isinstance(side, ast.Constant)]
+            if not any(value is None or isinstance(value, bool) for value in beside):
+                faults.append("L20 is")
+    return faults
+
+
+def faults_of_small(node):
+    """Of names, values, loops and calls."""
+    if isinstance(node, ast.Name) and isinstance(node.ctx, ast.Load):
+        barred = node.id in vars(builtins) and node.id not in OWN_NAMES
+        return ["L8 name " + node.id] if barred else []
+    if isinstance(node, ast.Name) or isinstance(node, ast.arg):
+        fault = fault_of_name(node.id if isinstance(node, ast.Name) else node.arg)
+        return [fault] if fault else []
+    if isinstance(node, ast.Attribute) and (node.attr in BARRED_NAMES or node.attr.startswith("_")):
+        return [] if node.attr == "__init__" else ["L17 attribute " + node.attr]
+    if isinstance(node, ast.Constant) and not isinstance(node.value, (int, str, bool, type(None))):
+        return ["L7 value"]
+    if isinstance(node, ast.Constant) and isinstance(node.value, str) and "%" in node.value:
+        return ["L27 sign"]
+    if isinstance(node, ast.Expr) and not isinstance(node.value, (ast.Call, ast.Constant)):
+        return ["L6 value by itself"]
+    if isinstance(node, (ast.Div, ast.MatMult)):
+        return ["L7 operator"]
+    if isinstance(node, (ast.For, ast.While)) and node.orelse:
+        return ["L6 else behind a loop"]
+    if isinstance(node, ast.Try) and node.finalbody:
+        return ["L6 finally"]
+    if isinstance(node, ast.Assign) and len(node.targets) > 1:
+        return ["L6 targets"]
+    if isinstance(node, ast.ListComp) and (len(node.generators) > 1 or len(node.generators[0].ifs) > 1):
+        return ["L7 comprehension"]
+    return []
+
+
+def faults_of_node(node):
+    if not isinstance(node, NODES):
+        return ["L6 or L7 " + node.__class__.__name__]
+    if isinstance(node, (ast.FunctionDef, ast.Lambda)):
+        return faults_of_def(node)
+    if isinstance(node, ast.ClassDef):
+        return faults_of_class(node)
+    if isinstance(node, ast.ImportFrom):
+        return faults_of_import(node)
+    if isinstance(node, ast.Compare):
+        return faults_of_compare(node)
+    return faults_of_small(node)
+
+
+def bound_at_top(tree):
+    names = []
+    for node in tree.body:
+        if isinstance(node, (ast.FunctionDef, ast.ClassDef)):
+            names.append(node.name)
+        elif isinstance(node, ast.ImportFrom):
+            names.extend(name.asname or name.name for name in node.names)
+        elif isinstance(node, ast.Assign):
+            names.extend(part.id for part in ast.walk(node.targets[0]) if isinstance(part, ast.Name))
+    return names
+
+
+def faults_of_top(tree):
+    faults = []
+    body = tree.body[1:] if ast.get_docstring(tree) is not None else tree.body
+    for node in body:
+        if not isinstance(node, TOP_NODES):
+            faults.append("L3 top")
+    names = bound_at_top(tree)
+    faults.extend("L15 twice " + name for name in sorted(set(names)) if names.count(name) > 1)
+    inner = [part for node in tree.body for part in ast.walk(node) if part is not node]
+    if any(isinstance(part, (ast.ImportFrom, ast.ClassDef)) for part in inner):
+        faults.append("L2 or L15 within")
+    return faults
+
+
+def faults_of(source):
+    tree = ast.parse(source)
+    faults = faults_of_text(source) + faults_of_top(tree)
+    for node in ast.walk(tree):
+        faults.extend(faults_of_node(node))
+    return faults
+
+
+def modules():
+    return {path.stem: path.read_text(encoding="utf-8") for path in sorted(PACKAGE.glob("*.py"))}
+
+
+def methods_of(sources):
+    trees = [ast.parse(source) for source in sources]
+    classes = [node for tree in trees for node in tree.body if isinstance(node, ast.ClassDef)]
+    return {part.name for node in classes for part in node.body if isinstance(part, ast.FunctionDef)}
+
+
+def draws_of(source):
+    drawn = [node.module for node in ast.parse(source).body if isinstance(node, ast.ImportFrom)]
+    return [name.partition(".")[2] for name in drawn if name.startswith("linewarden.")]
+
+
+def drawn_in_all(name, draws):
+    found, open_names = set(), [name]
+    while open_names:
+        for drawn in draws.get(open_names.pop(), []):
+            if drawn not in found:
+                found.add(drawn)
+                open_names.append(drawn)
+    return found
+
+
+class TestPackage(unittest.TestCase):
+    def test_files(self):
+        for path in PACKAGE.iterdir():
+            if path.name == "__pycache__":
+                continue
+            with self.subTest(path=path.name):
+                self.assertTrue(path.is_file())
+                self.assertRegex(path.name, r"\A(__init__|__main__|[a-z][a-z0-9_]*)\.py\Z")
+                self.assertIsNone(BARRED_FILES.fullmatch(path.stem))
+                self.assertNotIn(path.stem, vars(builtins))
+        self.assertIn("__init__", modules())
+
+    def test_each_file(self):
+        for name, source in modules().items():
+            with self.subTest(name=name):
+                self.assertEqual(faults_of(source), [])
+
+    def test_methods_that_are_called(self):
+        known = OWN_METHODS | methods_of(modules().values())
+        for name, source in modules().items():
+            for node in ast.walk(ast.parse(source)):
+                if isinstance(node, ast.Call) and isinstance(node.func, ast.Attribute):
+                    with self.subTest(name=name, line=node.lineno):
+                        self.assertIn(node.func.attr, known)
+
+    def test_no_two_files_draw_from_one_another(self):
+        draws = {name: draws_of(source) for name, source in modules().items()}
+        self.assertEqual(draws["__init__"], [])
+        for name in draws:
+            with self.subTest(name=name):
+                self.assertNotIn(name, drawn_in_all(name, draws))
+
+
+class TestTheLook(unittest.TestCase):
+    def test_what_is_outside_is_seen(self):
+        for source in (
+                "import os\n", "from os import path\n", "from .errors import NoWord\n",
+                "from linewarden.errors import *\n", "def f(x):\n    x + 1\n",
+                "def f(*a):\n    return a\n", "def f():\n    return 1 / 2\n", "def f():\n    return 1.5\n",
+                "def f(x):\n    return x is f\n", "def f(x):\n    return getattr(x, 'y')\n", "x = 1\nx = 2\n",
+                "class C:\n    x = 1\n", "def f():\n    yield 1\n", "def f(x):\n    del x\n", "# a type\n",
+                "def f(hash):\n    return hash\n", "def f():\n    return {1: 2 for x in ()}\n", "print(1)\n",
+                "# \u00e4\n", "def f():\n\treturn 1\n", "x = " + "1" * 120 + "\n", "def f():\n" + "    f()\n" * 40):
+            with self.subTest(source=source):
+                self.assertNotEqual(faults_of(source), [])
+
+    def test_what_is_inside_is_let_through(self):
+        source = (
+            '"""A file."""\n\nfrom linewarden.errors import NoWord\n\nWORDS = ("a", "b")\n\n\n'
+            "class Box:\n    def __init__(self, size=None):\n        self.size = size\n\n\n"
+            "def told(box):\n    if box.size is None:\n        raise NoWord('none')\n"
+            "    return [word for word in WORDS if len(word) == box.size]\n")
+        self.assertEqual(faults_of(source), [])
+
+
+if __name__ == "__main__":
+    unittest.main()
