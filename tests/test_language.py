@@ -1,4 +1,7 @@
-"""The package keeps to its part of Python: what of LANGUAGE.md a look at the code can tell."""
+"""The package keeps to its part of Python: a look for some of the rules of LANGUAGE.md.
+
+Not looked for: L11, L13, L18, L19, L21 to L24, L26, L28. In part alone: L3, L5, L7, L14 to L17, L25, L27.
+"""
 
 import ast
 import builtins
