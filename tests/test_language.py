@@ -1,6 +1,6 @@
 """The package keeps to its part of Python: a look for some of the rules of LANGUAGE.md.
 
-Not looked for: L11, L13, L18, L19, L21 to L24, L26, L28. In part alone: L3, L5, L7, L14 to L17, L25, L27.
+Not looked for: L11, L13, L19, L21 to L24. In part alone: L3, L5, L7, L14 to L18, L25 to L28.
 """
 
 import ast
@@ -20,6 +20,9 @@ OWN_METHODS = set(
     "append clear copy count endswith extend find get index insert isalnum isalpha isdigit islower isspace "
     "isupper items join keys ljust lower lstrip partition pop remove replace reverse rfind rjust rpartition "
     "rsplit rstrip setdefault split splitlines startswith strip update upper values zfill bit_length".split())
+OWN_VALUES = set("count index title find get join lower upper split strip copy add".split())
+# What Python's own values have as methods and values.
+TAKEN = {name for kind in (str, int, list, tuple, dict, set, frozenset, bytes) for name in dir(kind)} | {"args"}
 DOUBLED = {"__init__", "__eq__", "__repr__", "__str__", "__len__"}
 BARRED_WORDS = re.compile(
     r"\b(type|typing|typing_extensions|enum|Enum|IntEnum|StrEnum|Flag|IntFlag|Generic|Protocol|ABC|ABCMeta|"
@@ -194,6 +197,62 @@ def methods_of(sources):
     return {part.name for node in classes for part in node.body if isinstance(part, ast.FunctionDef)}
 
 
+def values_of(sources):
+    """The names of all values that objects are given."""
+    nodes = [node for source in sources for node in ast.walk(ast.parse(source)) if isinstance(node, ast.Attribute)]
+    return {node.attr for node in nodes if isinstance(node.ctx, ast.Store)}
+
+
+def classes_of(sources):
+    nodes = [node for source in sources for node in ast.parse(source).body]
+    return {node.name for node in nodes if isinstance(node, ast.ClassDef)}
+
+
+def locals_of(source):
+    """The names of all parameters and locals within the defs of a file."""
+    defs = [node for node in ast.walk(ast.parse(source)) if isinstance(node, (ast.FunctionDef, ast.Lambda))]
+    parts = [part for node in defs for part in ast.walk(node)]
+    stored = {part.id for part in parts if isinstance(part, ast.Name) and isinstance(part.ctx, ast.Store)}
+    caught = {part.name for part in parts if isinstance(part, ast.ExceptHandler) and part.name}
+    return stored | caught | {part.arg for part in parts if isinstance(part, ast.arg)}
+
+
+def classes_and_imports_of(source):
+    tree = ast.parse(source)
+    imports = [node for node in tree.body if isinstance(node, ast.ImportFrom)]
+    return classes_of([source]) | {name.asname or name.name for node in imports for name in node.names}
+
+
+def places_of_classes(node):
+    """The expressions straight in this node where a class may stand."""
+    if isinstance(node, ast.Call):
+        own = isinstance(node.func, ast.Name) and node.func.id == "isinstance"
+        return [node.func] + (node.args[1:] if own else [])
+    if isinstance(node, ast.ClassDef):
+        return node.bases
+    if isinstance(node, ast.Raise):
+        return [node.exc]
+    if isinstance(node, ast.ExceptHandler):
+        return [node.type]
+    if isinstance(node, ast.Attribute) and node.attr == "__init__":
+        return [node.value]
+    return []
+
+
+def classes_out_of_place(source, classes):
+    nodes = list(ast.walk(ast.parse(source)))
+    places = [place for node in nodes for place in places_of_classes(node)]
+    places += [part for place in places if isinstance(place, ast.Tuple) for part in place.elts]
+    return [node.id for node in nodes if isinstance(node, ast.Name) and node.id in classes and node not in places]
+
+
+def inits_that_give_back(source):
+    defs = [node for node in ast.walk(ast.parse(source)) if isinstance(node, ast.FunctionDef)]
+    inits = [node for node in defs if node.name == "__init__"]
+    parts = [part for node in inits for part in ast.walk(node)]
+    return [part for part in parts if isinstance(part, ast.Return) and part.value is not None]
+
+
 def draws_of(source):
     drawn = [node.module for node in ast.parse(source).body if isinstance(node, ast.ImportFrom)]
     return [name.partition(".")[2] for name in drawn if name.startswith("linewarden.")]
@@ -234,6 +293,24 @@ class TestPackage(unittest.TestCase):
                     with self.subTest(name=name, line=node.lineno):
                         self.assertIn(node.func.attr, known)
 
+    def test_names_of_methods_and_values(self):
+        methods, values = methods_of(modules().values()), values_of(modules().values())
+        self.assertEqual(methods & values, set())
+        self.assertEqual(methods & TAKEN - OWN_METHODS - DOUBLED - {"add", "discard"}, set())
+        self.assertEqual(values & TAKEN - OWN_VALUES, set())
+
+    def test_no_local_is_called_like_a_class_or_an_import(self):
+        for name, source in modules().items():
+            with self.subTest(name=name):
+                self.assertEqual(locals_of(source) & classes_and_imports_of(source), set())
+
+    def test_classes_stand_where_they_may(self):
+        classes = classes_of(modules().values())
+        for name, source in modules().items():
+            with self.subTest(name=name):
+                self.assertEqual(classes_out_of_place(source, classes), [])
+                self.assertEqual(inits_that_give_back(source), [])
+
     def test_no_two_files_draw_from_one_another(self):
         draws = {name: draws_of(source) for name, source in modules().items()}
         self.assertEqual(draws["__init__"], [])
@@ -254,6 +331,17 @@ class TestTheLook(unittest.TestCase):
                 "# \u00e4\n", "def f():\n\treturn 1\n", "x = " + "1" * 120 + "\n", "def f():\n" + "    f()\n" * 40):
             with self.subTest(source=source):
                 self.assertNotEqual(faults_of(source), [])
+
+    def test_classes_methods_values_and_locals_are_seen(self):
+        source = (
+            "from linewarden.errors import NoWord\n\n\nclass Box:\n    def __init__(self, size):\n"
+            "        self.size = size\n        return None\n\n\ndef told(NoWord):\n    boxes = [Box, Box(1)]\n"
+            "    return isinstance(boxes, Box)\n")
+        self.assertEqual((methods_of([source]), values_of([source])), ({"__init__"}, {"size"}))
+        self.assertEqual(locals_of(source), {"self", "size", "NoWord", "boxes"})
+        self.assertEqual(classes_and_imports_of(source), {"Box", "NoWord"})
+        self.assertEqual(classes_out_of_place(source, {"Box"}), ["Box"])
+        self.assertEqual(len(inits_that_give_back(source)), 1)
 
     def test_what_is_inside_is_let_through(self):
         source = (

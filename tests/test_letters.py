@@ -4,30 +4,11 @@ import unittest
 
 from linewarden.errors import NoWord
 from linewarden.letters import make_letter, road_of, to_home
+from odd_things import Untouched, no_texts
 
 HOME = ("read", "write", "back", "lowered", "yielded", "took")
 NEAR = ("lower", "yield", "share", "own", "gone")
 ALL = HOME + NEAR
-
-
-class Untouched:
-    """Fails whoever looks at it."""
-
-    def fail(self, *given):
-        raise AssertionError("this part was looked at")
-
-    __eq__ = __ne__ = __lt__ = __gt__ = __hash__ = __bool__ = __len__ = fail
-    __iter__ = __getitem__ = __contains__ = __int__ = __index__ = __str__ = __repr__ = fail
-
-
-class Agreeing:
-    """Says of itself that it is like everything."""
-
-    def __eq__(self, other):
-        return True
-
-    def __hash__(self):
-        return hash("read")
 
 
 def near_texts():
@@ -38,10 +19,7 @@ def near_texts():
 
 def no_words():
     texts = [text for text in near_texts() if text not in ALL]
-    numbers = [0, 1, -1, 10 ** 59, 10 ** 5000, 1.5, True, False]
-    several = [[], ["read"], list(ALL), (), ("read",), ("read", 0, 0, None), {}, {"read": True}, {"read"}]
-    others = [None, b"read", object(), str, Untouched(), Agreeing()]
-    return ["", " ", "\n", "~", "wants read", "leaving", "readwrite"] + texts + numbers + several + others
+    return ["", " ", "\n", "~", "wants read", "leaving", "readwrite"] + texts + no_texts() + [list(ALL), ALL]
 
 
 class TestWordsOfLetters(unittest.TestCase):
