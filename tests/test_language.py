@@ -1,6 +1,6 @@
 """The package keeps to its part of Python: a look for some of the rules of LANGUAGE.md.
 
-Not looked for: L11, L13, L19, L21 to L24. In part alone: L3, L5, L7, L14 to L18, L25 to L28.
+Not looked for: L11, L13. In part alone: L3, L5, L7, L14 to L19, L22 to L28.
 """
 
 import ast
@@ -37,6 +37,13 @@ NODES = (
     ast.BinOp, ast.UnaryOp, ast.BoolOp, ast.Compare, ast.IfExp, ast.Call, ast.keyword, ast.Attribute,
     ast.Subscript, ast.Slice, ast.ListComp, ast.comprehension, ast.JoinedStr, ast.FormattedValue, ast.Name,
     ast.expr_context, ast.operator, ast.unaryop, ast.boolop, ast.cmpop)
+CHANGING = set("append clear extend insert pop remove reverse setdefault update".split())
+WALKS = ("zip", "enumerate", "reversed", "range")
+WALKS_OF_DICTS = ("items", "keys", "values")
+WALKERS = ("list", "tuple", "dict", "sorted", "sum", "any", "all", "enumerate", "zip")
+KEYWORDS = {"sorted": {"key", "reverse"}, "min": {"key", "default"}, "max": {"key", "default"}, "sum": {"start"},
+            "enumerate": {"start"}, "zip": {"strict"}}
+AS_KEYS = ("len", "int", "str", "abs", "sum", "min", "max", "tuple")
 TOP_NODES = (ast.ImportFrom, ast.FunctionDef, ast.ClassDef, ast.Assign)
 
 
@@ -187,6 +194,106 @@ def faults_of(source):
     return faults
 
 
+def name_of_call(node):
+    """The name that is called, if it is a plain one."""
+    return node.func.id if isinstance(node, ast.Call) and isinstance(node.func, ast.Name) else None
+
+
+def method_of_call(node):
+    return node.func.attr if isinstance(node, ast.Call) and isinstance(node.func, ast.Attribute) else None
+
+
+def is_walk(node):
+    return name_of_call(node) in WALKS or (method_of_call(node) in WALKS_OF_DICTS and not node.args)
+
+
+def places_of_walks(node):
+    """The expressions straight in this node that are walked at once."""
+    if isinstance(node, (ast.For, ast.comprehension)):
+        return [node.iter]
+    if name_of_call(node) in WALKERS or (name_of_call(node) in ("min", "max") and len(node.args) == 1):
+        return node.args[:1]
+    return node.args if method_of_call(node) == "join" else []
+
+
+def walks_that_are_kept(source):
+    nodes = list(ast.walk(ast.parse(source)))
+    places = [place for node in nodes for place in places_of_walks(node)]
+    return [ast.unparse(node) for node in nodes if is_walk(node) and node not in places]
+
+
+def walked_in(expression):
+    """What a loop over this expression walks, as texts."""
+    if name_of_call(expression) in ("enumerate", "zip", "reversed"):
+        return [text for part in expression.args for text in walked_in(part)]
+    if method_of_call(expression) in WALKS_OF_DICTS:
+        return [ast.unparse(expression.func.value)]
+    return [ast.unparse(expression)]
+
+
+def changed_by(node):
+    if method_of_call(node) in CHANGING:
+        return [ast.unparse(node.func.value)]
+    targets = node.targets if isinstance(node, ast.Assign) else []
+    changed = [ast.unparse(target.value) for target in targets if isinstance(target, ast.Subscript)]
+    return changed + ([ast.unparse(node.target)] if isinstance(node, ast.AugAssign) else [])
+
+
+def walked_and_changed(source):
+    faults = []
+    for loop in [node for node in ast.walk(ast.parse(source)) if isinstance(node, ast.For)]:
+        changed = [text for part in loop.body for node in ast.walk(part) for text in changed_by(node)]
+        faults.extend(text for text in walked_in(loop.iter) if text in changed)
+    return faults
+
+
+def is_set(node):
+    if isinstance(node, ast.BinOp):
+        return is_set(node.left) or is_set(node.right)
+    return isinstance(node, ast.Set) or name_of_call(node) in ("set", "frozenset")
+
+
+def sets_out_of_place(source):
+    nodes = list(ast.walk(ast.parse(source)))
+    places = [part for node in nodes if name_of_call(node) in ("sorted", "len") for part in node.args]
+    places += [part for node in nodes if isinstance(node, ast.Compare) for part in node.comparators + [node.left]]
+    places += [part for place in places for part in ast.walk(place) if isinstance(place, ast.BinOp)]
+    return [ast.unparse(node) for node in nodes if is_set(node) and node not in places]
+
+
+def calls_of_own_names(source):
+    """Faults of L22: keywords, isinstance, and Python's own functions where they are not called."""
+    nodes = list(ast.walk(ast.parse(source)))
+    calls = [node for node in nodes if name_of_call(node) in OWN_NAMES]
+    faults = [ast.unparse(node) for node in calls
+              if {part.arg for part in node.keywords} - KEYWORDS.get(node.func.id, set())]
+    faults += [ast.unparse(node) for node in calls if node.func.id == "isinstance" and len(node.args) != 2]
+    places = [part for node in nodes for place in places_of_classes(node) for part in ast.walk(place)]
+    places += [node.value for node in nodes if isinstance(node, ast.keyword) and node.arg == "key"
+               and isinstance(node.value, ast.Name) and node.value.id in AS_KEYS]
+    names = [node for node in nodes if isinstance(node, ast.Name) and node.id in OWN_NAMES]
+    return faults + [node.id for node in names if node not in places]
+
+
+def errors_out_of_place(source):
+    faults = []
+    for node in ast.walk(ast.parse(source)):
+        if isinstance(node, ast.Raise) and not isinstance(node.exc, ast.Call):
+            faults.append("raise")
+        if isinstance(node, ast.ExceptHandler):
+            taken = node.type.elts if isinstance(node.type, ast.Tuple) else [node.type]
+            names = [part.id if isinstance(part, ast.Name) else "" for part in taken]
+            faults.extend("except " + name for name in names if name in ("", "Exception", "TypeError"))
+    return faults
+
+
+def annotations_of(source):
+    nodes = list(ast.walk(ast.parse(source)))
+    given = [node.annotation for node in nodes if isinstance(node, ast.arg)]
+    given += [node.returns for node in nodes if isinstance(node, ast.FunctionDef)]
+    return [ast.unparse(part) for part in given if part is not None]
+
+
 def modules():
     return {path.stem: path.read_text(encoding="utf-8") for path in sorted(PACKAGE.glob("*.py"))}
 
@@ -230,9 +337,9 @@ def places_of_classes(node):
         return [node.func] + (node.args[1:] if own else [])
     if isinstance(node, ast.ClassDef):
         return node.bases
-    if isinstance(node, ast.Raise):
+    if isinstance(node, ast.Raise) and node.exc is not None:
         return [node.exc]
-    if isinstance(node, ast.ExceptHandler):
+    if isinstance(node, ast.ExceptHandler) and node.type is not None:
         return [node.type]
     if isinstance(node, ast.Attribute) and node.attr == "__init__":
         return [node.value]
@@ -311,6 +418,13 @@ class TestPackage(unittest.TestCase):
                 self.assertEqual(classes_out_of_place(source, classes), [])
                 self.assertEqual(inits_that_give_back(source), [])
 
+    def test_walks_sets_own_names_errors_and_annotations(self):
+        for name, source in modules().items():
+            with self.subTest(name=name):
+                self.assertEqual((walks_that_are_kept(source), walked_and_changed(source)), ([], []))
+                self.assertEqual((sets_out_of_place(source), calls_of_own_names(source)), ([], []))
+                self.assertEqual((errors_out_of_place(source), annotations_of(source)), ([], []))
+
     def test_no_two_files_draw_from_one_another(self):
         draws = {name: draws_of(source) for name, source in modules().items()}
         self.assertEqual(draws["__init__"], [])
@@ -342,6 +456,28 @@ class TestTheLook(unittest.TestCase):
         self.assertEqual(classes_and_imports_of(source), {"Box", "NoWord"})
         self.assertEqual(classes_out_of_place(source, {"Box"}), ["Box"])
         self.assertEqual(len(inits_that_give_back(source)), 1)
+
+    def test_walks_are_seen(self):
+        source = (
+            "def f(xs, d):\n    ys = zip(xs, xs)\n    for y in d.items():\n        d.pop(y)\n"
+            "    for k, x in enumerate(xs):\n        xs[k] = x\n    return (ys, sorted(d.keys()), d.values())\n")
+        self.assertEqual(walks_that_are_kept(source), ["zip(xs, xs)", "d.values()"])
+        self.assertEqual(walked_and_changed(source), ["d", "xs"])
+
+    def test_sets_are_seen(self):
+        source = (
+            "def f(xs):\n    s = set(xs)\n    for x in {1, 2}:\n        s = x\n"
+            "    return (len(set(xs) - set(s)), sorted(set(xs)), 1 in set(xs), set(xs) == set(s))\n")
+        self.assertEqual(sets_out_of_place(source), ["set(xs)", "{1, 2}"])
+
+    def test_own_names_errors_and_annotations_are_seen(self):
+        source = (
+            "def f(xs: int):\n    g = len\n    try:\n        g(xs)\n    except (KeyError, TypeError):\n"
+            "        raise\n    ys = (sorted(xs, key=len), sorted(xs, key=ord))\n"
+            "    return (ys, int(xs, base=2), isinstance(xs, int))\n")
+        self.assertEqual(sorted(calls_of_own_names(source)), ["int", "int(xs, base=2)", "len", "ord"])
+        self.assertEqual(errors_out_of_place(source), ["except TypeError", "raise"])
+        self.assertEqual(annotations_of(source), ["int"])
 
     def test_what_is_inside_is_let_through(self):
         source = (
