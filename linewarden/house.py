@@ -78,7 +78,8 @@ class House:
         return (stores, homes, tuple(self.letters_by_roads()))
 
     def twin(self):
-        other = House(len(self.stores), len(self.homes), self.width, self.room, self.ordered)
+        # The smallest house, as its nears and homes give way to twins of these.
+        other = House(1, 1, self.width, self.room, self.ordered)
         other.stores = [store.twin() for store in self.stores]
         other.homes = [home.twin() for home in self.homes]
         other.roads = self.roads.twin()

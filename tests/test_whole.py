@@ -1,64 +1,13 @@
-"""[3] The promise of the whole, of houses, their letters and their trails, in many orders of letters.
-
-What [23] to [28] tell of a picture is written here from their words, as far as [3] asks for it.
-"""
+"""[3] The promise of the whole, of houses, their letters and their trails, in many orders of letters."""
 
 import unittest
 
 from linewarden.house import House
+from linewarden.looks import clash_lines, is_calm, last_words, odd_lines, told_number
 from linewarden.trails import faults_of, memory_of, rows_of_near
 
 ASKING = ("read", "write", "back")
 TO_HOME = ASKING + ("lowered", "yielded", "took")
-LETTER_WORTH = {"lower": 2, "yield": 2, "share": 2, "own": 2, "back": 2,
-                "lowered": 1, "yielded": 1, "took": 1, "gone": 1}
-
-
-def states_of(picture, line):
-    """(near, kind, words) of each near in which the line is not away."""
-    return [(near, kind, words) for near, (rows, used, row) in enumerate(picture[0])
-            for own, kind, words in rows if own == line]
-
-
-def holders_of(picture, line):
-    states = states_of(picture, line)
-    return [state for state in states if state[1] in ("reader", "writer", "wants write") and state[2] is not None]
-
-
-def last_words_of(picture, line):
-    words = [words for near, kind, words in states_of(picture, line) if kind == "writer"]
-    letters = [letter for letter in picture[2] if letter[0] in ("lowered", "yielded") and letter[1] == line]
-    words += [letter[3] for letter in letters if letter[3] is not None]
-    home = picture[1][line]
-    words += [words for near, kind, words in states_of(picture, line)
-              if home[1] is not None and near == home[1] and kind == "leaving writer"]
-    return (words + [home[0]])[0]
-
-
-def is_calm(picture):
-    return not picture[2] and not any(near[2] for near in picture[0]) and not any(
-        home[3] or home[4] for home in picture[1])
-
-
-def is_sent_for(near_picture, width):
-    kinds = {line: kind for line, kind, words in near_picture[0]}
-    return kinds.get(near_picture[2][0][1] // width) in ("wants read", "wants write")
-
-
-def told_number(picture):
-    nears, homes, letters = picture
-    count, width, number = len(nears), len(homes[0][0]), 0
-    for near in nears:
-        if near[2]:
-            number += (2 * count + 3) * len(near[2])
-            number -= 2 * count + 3 if is_sent_for(near, width) else 2
-    for letter in letters:
-        number += LETTER_WORTH.get(letter[0], 2 * count + 1)
-    for words, writer, readers, row, work in homes:
-        number += sum(1 if letter[0] == "back" else 2 * count for letter in row)
-        if work is not None and work[1][0][0] != "took":
-            number += 2
-    return number
 
 
 class Chooser:
@@ -119,6 +68,7 @@ class WholeTest(unittest.TestCase):
             self.assertLessEqual(len(words), 1)
             if house.book(line)[0] is None:
                 self.assertLessEqual(words, {house.far(line)})
+        self.assertEqual(clash_lines(asked.picture), [])
 
     def assert_trail(self, asked):
         house, trail = asked.house, asked.house.trail()
@@ -128,7 +78,7 @@ class WholeTest(unittest.TestCase):
             self.assertEqual([deed for of, deed, value in rows] + house.waiting(near), asked.deeds[near])
             self.assertEqual([value for of, deed, value in rows], house.answers(near))
         memory, addresses = dict(memory_of(trail)), range(asked.lines * asked.width)
-        last = [word for line in range(asked.lines) for word in last_words_of(asked.picture, line)]
+        last = [word for line in range(asked.lines) for word in last_words(asked.picture, line)]
         self.assertEqual(last, [memory.get(address, 0) for address in addresses])
 
     def assert_letters(self, asked):
@@ -148,15 +98,15 @@ class WholeTest(unittest.TestCase):
         self.assertEqual(asked.house.may_come() == [], calm)
 
     def assert_calm(self, asked):
-        self.assertEqual([asked.house.waiting(near) for near in range(asked.nears)], [[]] * asked.nears)
+        house, nears = asked.house, range(asked.nears)
+        self.assertEqual([house.waiting(near) for near in nears], [[]] * asked.nears)
+        self.assertEqual(odd_lines(asked.picture), [])
         for line in range(asked.lines):
-            holders = holders_of(asked.picture, line)
-            writers = [near for near, kind, words in holders if kind == "writer"]
-            readers = [near for near, kind, words in holders if kind != "writer"]
-            self.assertLessEqual(len(writers), 1)
-            self.assertEqual(asked.house.book(line), ((writers + [None])[0], readers))
+            writers = [near for near in nears if house.may(near, line) == "write"]
+            readers = [near for near in nears if house.may(near, line) == "read"]
+            self.assertEqual(house.book(line), ((writers + [None])[0], readers))
             for near in readers:
-                self.assertEqual(asked.house.words(near, line), asked.house.far(line))
+                self.assertEqual(house.words(near, line), house.far(line))
 
     def ask(self, asked, near, deed):
         before = told_number(asked.picture)
@@ -247,7 +197,7 @@ class TestChosenOrders(WholeTest):
     """Larger houses, walked by rules."""
 
     SIZES = [(nears, lines, width, room) for nears in (1, 2, 3, 4) for lines in (1, 2, 3)
-             for width, room in ((1, 1), (2, 1), (1, 2), (2, 3)) if room <= lines]
+             for width, room in ((1, 1), (2, 1), (1, 2), (2, 3))]
 
     def deed(self, chooser, asked):
         address = chooser.below(asked.lines * asked.width)
